@@ -219,6 +219,17 @@ func TestOfNone(t *testing.T) {
 	}
 }
 
+// TestOfOneThatNewDidNotMake: none of its calls panics, and there is no phase to go on to.
+func TestOfOneThatNewDidNotMake(t *testing.T) {
+	var m phase.Machine
+	if m.Wish(1<<30, true) || m.Cycle(true, true) || m.Cycle(false, true) || m.Set(0, 0) {
+		t.Error("of one without phases")
+	}
+	if !reflect.DeepEqual(m.Now(), api.Phase{}) || m.Phase() != 0 || m.In() != 0 || !m.Last() {
+		t.Error(m.Now(), m.Phase(), m.In(), m.Last())
+	}
+}
+
 // P21.2
 
 func TestPhasesNeverGoBack(t *testing.T) {
