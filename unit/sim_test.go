@@ -24,7 +24,7 @@ func mission() api.Rules {
 		{Area: square(2000), G: 3, MaxV: 80, Min: 1, Up: 400},
 		{Area: square(3000), G: 4, MaxV: 70, Min: 1, Up: 500},
 	}
-	return api.Rules{Phases: phases, N: 3, D: 2, Green: 6, Eps: 2, Step: 20, Age: 2, Lift: 200, Safing: 2}
+	return api.Rules{Phases: phases, N: 3, D: 2, Green: 6, Eps: 2, Step: 20, Age: 5, Lift: 200, Safing: 2}
 }
 
 func printed(t *testing.T, r api.Rules) string {
